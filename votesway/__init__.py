@@ -1,0 +1,1 @@
+"""Votesway: councils whose crowds carry or don't."""
