@@ -1,6 +1,7 @@
 """Councils and crowds told straight from the document's words, to hold the program against."""
 
-from itertools import chain, combinations, product
+from fractions import Fraction
+from itertools import chain, combinations, permutations, product
 
 
 def crowds_of(many):
@@ -29,6 +30,82 @@ def idle(many, told):
 def can_all(many, told, one, other):
     return all(carries(told, crowd + (one,)) for crowd in crowds_of(many)
                if one not in crowd and other not in crowd and carries(told, crowd + (other,)))
+
+
+def carrying_of(many, told):
+    return {crowd for crowd in crowds_of(many) if carries(told, crowd)}
+
+
+def swings(many, told):
+    carrying = carrying_of(many, told)
+    return [sum(crowd not in carrying and tuple(sorted(crowd + (member,))) in carrying
+                for crowd in crowds_of(many) if member not in crowd) for member in range(many)]
+
+
+def swayer(carrying, order):
+    for count, member in enumerate(order):
+        if tuple(sorted(order[:count])) not in carrying and tuple(sorted(order[:count + 1])) in carrying:
+            return member
+    return None
+
+
+def powers(many, told):
+    """Counted over all orders one by one."""
+    carrying = carrying_of(many, told)
+    swayers = [swayer(carrying, order) for order in permutations(range(many))]
+    shares = [Fraction(swayers.count(member), len(swayers)) for member in range(many)]
+    return [(share.numerator, share.denominator) for share in shares]
+
+
+def weight_of(weights, crowd):
+    return sum(weights[member] for member in crowd)
+
+
+def carrying_by_weights(weights, bar):
+    return {crowd for crowd in crowds_of(len(weights)) if weight_of(weights, crowd) >= bar}
+
+
+def is_trade(many, told, trade):
+    carrying = carrying_of(many, told)
+    if len(trade) != 4 or any(crowd not in crowds_of(many) for crowd in trade):
+        return False
+    if any((crowd in carrying) != (place < 2) for place, crowd in enumerate(trade)):
+        return False
+    return sorted(trade[0] + trade[1]) == sorted(trade[2] + trade[3])
+
+
+def has_trade(many, told):
+    carrying = carrying_of(many, told)
+    gained = {tuple(sorted(one + other)) for one, other in product(carrying, repeat=2)}
+    failing = [crowd for crowd in crowds_of(many) if crowd not in carrying]
+    return any(tuple(sorted(one + other)) in gained for one, other in product(failing, repeat=2))
+
+
+def note(many, told):
+    crowds = [" " + ("+".join(map(str, crowd)) or "-") for crowd in least(many, told)]
+    return f"{many}:" + ",".join(crowds)
+
+
+def tables(many):
+    """Every council as a tuple of the crowds that carry: those without the last member, then those with."""
+    if many == 0:
+        return [(), ((),)]
+    smaller = tables(many - 1)
+    last = many - 1
+    return [one + tuple(crowd + (last,) for crowd in other)
+            for one in smaller for other in smaller if set(one) <= set(other)]
+
+
+def all_councils(many):
+    """Every council of so many members once, told by all crowds that carry."""
+    return [(many, list(table)) for table in tables(many)]
+
+
+def councils_to_try(step):
+    """Every council of 1 to 4 members, and every step-th one of 5."""
+    for many in (1, 2, 3, 4):
+        yield from all_councils(many)
+    yield from all_councils(5)[::step]
 
 
 def small_lists():

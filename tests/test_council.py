@@ -1,23 +1,11 @@
 import unittest
 
 import reference
+from cases import CouncilCase
 from votesway.council import Council
 from votesway.errors import BadCrowd, BadSize
 
 WRONG_SIZES = (0, -1, -5, -10 ** 30, 6, 7, 40, 10 ** 30, 10 ** 5000, -10 ** 5000)
-
-
-class CouncilCase(unittest.TestCase):
-    def assert_refused(self, refusal, call, *args):
-        with self.assertRaises(refusal) as caught:
-            call(*args)
-        self.assertIs(type(caught.exception), refusal)
-
-    def assert_tells(self, council, many, told):
-        self.assertEqual(council.many(), many)
-        self.assertEqual(council.least(), reference.least(many, told))
-        for crowd in reference.crowds_of(many):
-            self.assertIs(council.carries(crowd), reference.carries(told, crowd))
 
 
 class Carrying(CouncilCase):

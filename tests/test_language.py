@@ -113,6 +113,34 @@ class Language(unittest.TestCase):
                     self.assertEqual(node.level, 0, name)
                     self.assertNotIn("*", [alias.name for alias in node.names], name)
 
+    def test_no_two_files_draw_from_one_another(self):
+        drawn = {name[:-3]: {node.module.split(".")[1] for node in tree.body if isinstance(node, ast.ImportFrom)}
+                 for name, tree in trees()}
+        while drawn:
+            free = [name for name in drawn if not drawn[name] & set(drawn)]
+            self.assertTrue(free, drawn)
+            for name in free:
+                drawn.pop(name)
+
+    def test_names_are_drawn_from_the_file_that_defines_them(self):
+        defined = {name[:-3]: {node.name for node in tree.body if isinstance(node, (ast.FunctionDef, ast.ClassDef))}
+                   for name, tree in trees()}
+        for name, tree in trees():
+            for node in tree.body:
+                if isinstance(node, ast.ImportFrom):
+                    for alias in node.names:
+                        self.assertIn(alias.name, defined[node.module.split(".")[1]], name)
+                        self.assertIsNone(alias.asname, name)
+
+    def test_no_local_is_called_like_a_class_or_an_import(self):
+        for name, tree in trees():
+            taken = {alias.name for node in tree.body if isinstance(node, ast.ImportFrom) for alias in node.names}
+            taken |= {node.name for node in tree.body if isinstance(node, ast.ClassDef)}
+            bound = {node.arg for node in ast.walk(tree) if isinstance(node, ast.arg)}
+            bound |= {node.id for node in ast.walk(tree)
+                      if isinstance(node, ast.Name) and isinstance(node.ctx, ast.Store)}
+            self.assertFalse(taken & bound, name)
+
     def test_names(self):
         for name, tree in trees():
             for bound in bound_names(tree):

@@ -1,6 +1,7 @@
 import unittest
 
 import reference
+from cases import CouncilCase
 from votesway.council import Council
 from votesway.errors import NoMember
 from votesway.members import can_all, idle, vetoes
@@ -107,23 +108,18 @@ class CanAll(unittest.TestCase):
                         self.assertIs(can_all(council, one, other), reference.can_all(many, told, one, other))
 
 
-class NoSuchMember(unittest.TestCase):
-    def assert_refused(self, council, one, other):
-        with self.assertRaises(NoMember) as caught:
-            can_all(council, one, other)
-        self.assertIs(type(caught.exception), NoMember)
-
+class NoSuchMember(CouncilCase):
     def test_at_either_place_and_at_both(self):
         for many in range(1, 6):
             for told in ([], [()], [(0,)]):
                 council = Council(many, told)
                 for wrong in (many, many + 1, -1, -many, 10 ** 30, -10 ** 30, 10 ** 5000):
                     for member in range(many):
-                        self.assert_refused(council, wrong, member)
-                        self.assert_refused(council, member, wrong)
-                    self.assert_refused(council, wrong, wrong)
-                    self.assert_refused(council, wrong, -2)
-                    self.assert_refused(council, many, wrong)
+                        self.assert_refused(NoMember, can_all, council, wrong, member)
+                        self.assert_refused(NoMember, can_all, council, member, wrong)
+                    self.assert_refused(NoMember, can_all, council, wrong, wrong)
+                    self.assert_refused(NoMember, can_all, council, wrong, -2)
+                    self.assert_refused(NoMember, can_all, council, many, wrong)
 
 
 class NothingKept(unittest.TestCase):
